@@ -84,12 +84,17 @@ def is_step(turns, term, thing):
     return any([leads(signs, turn, term, filling, behind) for turn in turn_of(turns, title)])
 
 
+def has_step(signs, rows, term):
+    """Whether one of these turns leads on from a laid term."""
+    places = by_text(spots_of(signs, term))
+    for _, left, _ in rows:
+        for one, _ in headed_alike(places, left):
+            for _ in fillings_of(signs, left, one):
+                return True
+    return False
+
+
 def is_still(turns, term):
     """Whether there is no step from the term, however great or many they are."""
     signs = turns.signs()
-    places = by_text(spots_of(signs, laid(signs, term)))
-    for _, left, _ in turns.rows():
-        for one, _ in headed_alike(places, left):
-            for _ in fillings_of(signs, left, one):
-                return False
-    return True
+    return not has_step(signs, turns.rows(), laid(signs, term))
