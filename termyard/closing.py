@@ -206,7 +206,7 @@ class Work:
     def close(self):
         """Makes rules and levels until nothing more comes of likes and meetings, or too much has come."""
         before = -1
-        while not self.full and len(self.lemmas) > before:
+        while not self.full and (self.waiting or len(self.lemmas) > before):
             before = len(self.lemmas)
             self.wait_for_likes()
             self.wait_for_meetings(all_meetings(self.signs, self.rules, self.known)[0])

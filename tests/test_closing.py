@@ -93,6 +93,13 @@ class ClosingTest(unittest.TestCase):
         told = self.closed((("h", "X", C), "X"), (("f", C), A), (("f", "X"), "X"))
         self.assertEqual((told.word(), sides(told.levels())), ("level", [("A", ("h", "A", A))]))
 
+    def test_levels_of_which_one_term_or_both_are_brought_down(self):
+        told = self.closed((("g", "X", "Y"), ("g", "Y", "X")), (("g", "X", "Y"), ("q", "X", "Y", B, B)), scale=layered("g"))
+        self.assertEqual(sides(told.levels()), [(("q", "A", "B", B, B), ("q", "B", "A", B, B))])
+        for term in (("f", ("f", "X")), ("p", "X", B)):
+            told = self.closed((("h", "X", "X"), term), (term, ("q", "X", B, B, B)), scale=layered(term[0]))
+            self.assertEqual((told.word(), sides(told.levels())), ("level", [(("h", "A", "A"), ("q", "A", B, B, B))]))
+
     def test_one_level_either_way_about(self):
         self.rules("level", [], (("g", "X", "Y"), ("g", "Y", "X")), (("g", "Y", "Zed"), ("g", "Zed", "Y")),
                    levels=[(("g", "A", "B"), ("g", "B", "A"))])

@@ -232,6 +232,18 @@ class RefusedTest(unittest.TestCase):
         self.assertEqual(refusal(crossings, of(narrow, three, wide)), None)
         self.assertTrue(all(points(SIGNS, term) <= 80 for row in crossings(of(wide, narrow, three)) for term in row))
 
+    def test_beyond_but_it_comes_of_another_within(self):
+        three, wide = ("three", ("f", ("g", A, A)), B), ("wide", ("g", "X", ("f", "Y")), "X")
+        for around in (lambda term: ("k", term, A, "Z"), lambda term: ("k", "Z", B, term),
+                       lambda term: ("r", A, term, B), lambda term: ("p", term, B)):
+            many = 80 - points(SIGNS, laid(SIGNS, around(("g", A, ("f", A))))) + 1
+            narrow = ("narrow", around(("g", broad(many), ("f", "Y"))), around(broad(many)))
+            other = ("narrow", narrow[1], around(B))
+            self.assertEqual(refusal(crossings, of(three, narrow)), TOO_GREAT)
+            self.assertEqual(refusal(crossings, of(three, wide, narrow)), None)
+            self.assertEqual(refusal(crossings, of(narrow, wide, three)), None)
+            self.assertEqual(refusal(crossings, of(three, wide, other)), TOO_GREAT)
+
     def test_very_great(self):
         one = ("k", ("q", *"XYZV"), "W", ("q", *"YZVW"))
         other = ("k", ("q", *[("q", *[gap] * 4) for gap in "XYZV"]), ("q", *"WWWW"), ("q", *"XYZV"))
