@@ -3,9 +3,8 @@
 from termyard.errors import NoLike, NoName
 from termyard.matching import MOST_GAPS
 from termyard.naming import gaps_of_all
-from termyard.signs import is_list
 from termyard.terms import laid_or_none
-from termyard.turns import is_title
+from termyard.turns import is_title, titled
 
 MOST_LIKES = 20
 
@@ -25,14 +24,9 @@ class Likes:
     """Up to 20 likes of unlike titles, in their order."""
 
     def __init__(self, signs, rows):
-        if not is_list(rows):
-            raise NoLike(0)
-        table = {}
-        for at, row in enumerate(rows):
-            like = like_or_none(signs, row)
-            if like is None or like[0] in table or at >= MOST_LIKES:
-                raise NoLike(at)
-            table[like[0]] = like
+        table, flaw = titled(signs, rows, like_or_none, MOST_LIKES)
+        if flaw is not None:
+            raise NoLike(flaw)
         self._signs = signs
         self._table = table
         self._rows = tuple([table[title] for title in table])

@@ -32,18 +32,26 @@ def turn_or_none(signs, thing):
     return (thing[0], left, right)
 
 
+def titled(signs, rows, row_or_none, most):
+    """The table of rows, laid, by their titles, and the place of the first that is none, None where all are."""
+    if not is_list(rows):
+        return ({}, 0)
+    table = {}
+    for at, thing in enumerate(rows):
+        row = row_or_none(signs, thing)
+        if row is None or row[0] in table or at >= most:
+            return ({}, at)
+        table[row[0]] = row
+    return (table, None)
+
+
 class Turns:
     """Up to 30 turns of unlike titles, in their order."""
 
     def __init__(self, signs, rows):
-        if not is_list(rows):
-            raise NoTurn(0)
-        table = {}
-        for at, row in enumerate(rows):
-            turn = turn_or_none(signs, row)
-            if turn is None or turn[0] in table or at >= MOST_TURNS:
-                raise NoTurn(at)
-            table[turn[0]] = turn
+        table, flaw = titled(signs, rows, turn_or_none, MOST_TURNS)
+        if flaw is not None:
+            raise NoTurn(flaw)
         self._signs = signs
         self._table = table
         self._rows = tuple([table[title] for title in table])
