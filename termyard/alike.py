@@ -2,25 +2,12 @@
 
 from termyard.closing import last_of, way_down
 from termyard.errors import TooLong
-from termyard.lemmas import filled_row, laid_rows_or_none, turned_about, ways_by
-from termyard.signs import is_number
+from termyard.lemmas import filled_row, laid_rows_or_none, turned_about, used_by, ways_by
 from termyard.spots import put_back
 from termyard.terms import bounded, laid
 from termyard.traces import without_rounds
 
 MOST_ROWS = 400
-
-
-def used_by(lemmas, rows):
-    """The rising list of the numbers of the lemmas that these rows use, or a lemma that is used."""
-    used = {}
-    waiting = list(rows)
-    while waiting:
-        by = waiting.pop()[0]
-        if is_number(by) and by not in used:
-            used[by] = True
-            waiting.extend(lemmas[by][2])
-    return sorted(list(used))
 
 
 def numbered(rows, numbers):

@@ -107,6 +107,18 @@ def lemma_flaw(likes, lemmas):
     return None if len(right) == len(lemmas) else len(right)
 
 
+def used_by(lemmas, rows):
+    """The rising list of the numbers of the lemmas that these rows use, or a lemma that is used."""
+    used = {}
+    waiting = list(rows)
+    while waiting:
+        by = waiting.pop()[0]
+        if is_number(by) and by not in used:
+            used[by] = True
+            waiting.extend(lemmas[by][2])
+    return sorted(list(used))
+
+
 def turned_about(first, rows):
     """The rows that lead back from the end of a chain to its first term."""
     ahead = [first] + [row[3] for row in rows]

@@ -4,6 +4,8 @@ from termyard.errors import NoSign, NoText
 from termyard.signs import is_gap, is_name
 from termyard.terms import laid, text_of
 
+MARKS = ("(", ")", ",")
+
 
 def term_text(signs, term):
     """The text of the term."""
@@ -15,7 +17,7 @@ def words_of(text):
     words = []
     word = ""
     for letter in text:
-        if letter in "(),":
+        if letter in MARKS:
             words.extend([word, letter] if word else [letter])
             word = ""
         else:
@@ -23,18 +25,17 @@ def words_of(text):
     return words + [word] if word else words
 
 
-def draft_of(words):
-    """The draft that the words are by their form, whatever its signs; None where they are none."""
+def tree_of(words):
+    """The tree that the words are: gaps, and tuples of a word and of what stands in its brackets; None of no tree."""
     # Brackets may stand deeper within one another than calls can: what is still open waits in a list.
     waiting = []
     parts = []
     wanted = True
     for at, word in enumerate(words):
-        opens = at + 1 < len(words) and words[at + 1] == "("
-        if wanted and (is_name(word) or (is_gap(word) and not opens)):
-            parts.append((word,) if is_name(word) else word)
+        if wanted and word not in MARKS:
+            parts.append(word if is_gap(word) else (word,))
             wanted = False
-        elif word == "(" and at > 0 and is_name(words[at - 1]):
+        elif word == "(" and at > 0 and words[at - 1] not in MARKS and not is_gap(words[at - 1]):
             waiting.append(parts)
             parts = []
             wanted = True
@@ -47,6 +48,13 @@ def draft_of(words):
         else:
             return None
     return parts[0] if len(parts) == 1 and not waiting and not wanted else None
+
+
+def draft_of(words):
+    """The draft that the words are by their form, whatever its signs; None where they are none."""
+    if not all([word in MARKS or is_name(word) or is_gap(word) for word in words]):
+        return None
+    return tree_of(words)
 
 
 def read_term(signs, text):

@@ -38,7 +38,8 @@ def bound_within(node):
     """The names that a function binds, its parameters among them."""
     given = [arg.arg for row in ast.walk(node) if isinstance(row, ast.arguments)
              for arg in row.posonlyargs + row.args + row.kwonlyargs]
-    return given + [row.id for row in ast.walk(node) if isinstance(row, ast.Name) and isinstance(row.ctx, ast.Store)]
+    caught = [row.name for row in ast.walk(node) if isinstance(row, ast.ExceptHandler) and row.name]
+    return given + caught + [row.id for row in ast.walk(node) if isinstance(row, ast.Name) and isinstance(row.ctx, ast.Store)]
 
 
 class LanguageTest(unittest.TestCase):
@@ -102,6 +103,7 @@ class LanguageTest(unittest.TestCase):
                         self.assertFalse(name.startswith(PREFIXES), name)
 
     def test_builtins_and_methods(self):
+        methods = METHODS | own_methods() | {"__init__"}
         for path, tree in trees():
             known = set(own_names(tree)) | BUILTINS | {alias.name for row in imports(tree) for alias in row.names}
             known |= set(bound_within(tree))
@@ -109,7 +111,7 @@ class LanguageTest(unittest.TestCase):
                 if isinstance(node, ast.Name) and isinstance(node.ctx, ast.Load):
                     self.assertIn(node.id, known, path)
                 if isinstance(node, ast.Call) and isinstance(node.func, ast.Attribute):
-                    self.assertIn(node.func.attr, METHODS | own_methods() | {"__init__"}, path)
+                    self.assertIn(node.func.attr, methods, path)
 
     def test_what_stands_nowhere(self):
         for path, tree in trees():
