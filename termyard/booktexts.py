@@ -2,7 +2,7 @@
 
 from termyard.books import books_behind
 from termyard.errors import NoDeed, NoText, TurnError
-from termyard.shelf import shelf_of, word_for
+from termyard.shelf import shelf_of
 from termyard.signs import is_name
 from termyard.terms import text_of
 from termyard.termtexts import draft_of, words_of
@@ -39,7 +39,9 @@ def sign_told(words):
 
 def row_told(row):
     """What a row tells, a pair of its word and of what stands behind that; None where it isn't so by form."""
-    word, *given = row.split(" ")
+    words = row.split(" ")
+    word = words[0]
+    given = words[1:]
     told = None
     if word in ("book", "uses", "keeps"):
         told = given[0] if len(given) == 1 and is_name(given[0]) else None
@@ -102,7 +104,7 @@ def shelf_told(rows):
         try:
             books = books_behind(books, deed)
         except TurnError as refusal:
-            raise NoDeed(at, word_for(refusal)) from None
+            raise NoDeed(at, refusal.word()) from None
     return shelf_of(books)
 
 
@@ -110,12 +112,12 @@ def read_shelf(text):
     """The shelf of that text."""
     if not isinstance(text, str):
         raise NoText(0)
-    *rows, last = text.split("\n")
-    if not last:
-        return shelf_told(rows)
+    rows = text.split("\n")
+    if not rows[-1]:
+        return shelf_told(rows[:-1])
     # What is amiss in a row comes first, then that the last one lacks its end.
-    rows_told([*rows, last])
-    raise NoText(len(rows) + 1)
+    rows_told(rows)
+    raise NoText(len(rows))
 
 
 def book_rows(shelf, book):

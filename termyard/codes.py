@@ -35,12 +35,12 @@ FIELDS = {
 
 # What may be amiss on some way to a row is one number, a bit for each: a box that isn't set, a tray that is no row's,
 # no heap's, or not set, a skip or an over that has come, and for each gap that it isn't set, and that it is.
-NO_ROW = BOXES
-NO_HEAP = BOXES + TRAYS
-NO_TRAY = BOXES + 2 * TRAYS
-SKIPPED = BOXES + 3 * TRAYS
-PASSED = SKIPPED + 1
-GAPS = SKIPPED + 2
+NO_ROW = 100
+NO_HEAP = 200
+NO_TRAY = 300
+SKIPPED = 400
+PASSED = 401
+GAPS = 402
 
 
 def is_below(thing, most):

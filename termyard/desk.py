@@ -2,7 +2,6 @@
 
 from termyard.booktexts import shelf_rows, shelf_told, two_terms
 from termyard.errors import Broken, NoDeed, NoText, TurnError
-from termyard.shelf import word_for
 from termyard.signs import is_name
 from termyard.terms import text_of
 from termyard.termtexts import draft_of, words_of
@@ -40,14 +39,14 @@ class Desk:
             return ".."
         if self._shelf is None:
             return "no shelf"
-        word, *given = row.split(" ")
+        words = row.split(" ")
         try:
-            return self.answer(word, given)
+            return self.answer(words[0], words[1:])
         except Broken as broken:
             pair = f"{text_of(broken.one)} = {text_of(broken.other)}"
             return f"broken {broken.book} {broken.kept} {pair}"
         except TurnError as refusal:
-            return f"refused {word_for(refusal)}"
+            return f"refused {refusal.word()}"
 
     def hear(self, row):
         """Takes one more row of the shelf that is being told."""
@@ -65,7 +64,7 @@ class Desk:
         except NoDeed as deed:
             return f"refused {deed.why}"
         except TurnError as refusal:
-            return f"refused {word_for(refusal)}"
+            return f"refused {refusal.word()}"
         return "ok"
 
     def answer(self, word, given):

@@ -4,6 +4,10 @@
 class TurnError(ValueError):
     """What all refusals of the package are."""
 
+    def word(self):
+        """The name of the refusal's class in small letters."""
+        return self.__class__.__name__.lower()
+
 
 class NoSigns(TurnError):
     """Rows that are no signs were handed in as signs."""

@@ -8,11 +8,6 @@ from termyard.signs import is_list
 from termyard.terms import laid, laid_or_none
 
 
-def word_for(refusal):
-    """The name of a refusal's class in small letters."""
-    return refusal.__class__.__name__.lower()
-
-
 def end_by(closing, term):
     """The end of a laid term by the rules of a closing."""
     rules = [(number, left, right) for left, right, number in closing.rules()]
@@ -258,7 +253,7 @@ def taken_all(library, deeds):
         try:
             rows.append(library.take(deed))
         except TurnError as refusal:
-            raise NoDeed(at, word_for(refusal)) from None
+            raise NoDeed(at, refusal.word()) from None
     return rows
 
 
