@@ -225,7 +225,7 @@ def run(plans, plan, term, *, most=MOST, by_code=False):
         raise NoNumber("0 to 2000 may be come to at most")
     going = Going(plans, ByCode(turns) if by_code else ByMatching(turns), most)
     goes = going.go(plan, term)
-    return (goes, Trace(turns, term, going.steps))
+    return (goes, Trace(turns, term).by(going.steps))
 
 
 def rest(turns, term, *, most=MOST):

@@ -8,6 +8,7 @@ from termyard.spots import splits
 from termyard.terms import laid, text_of
 
 MOST_UNITS = 2000
+LEAST_CODE = (("tell", 0),)
 
 # What is held is a tuple (boxes, trays, gaps, over), which is never changed: a choice goes back to it as it was. Boxes
 # have terms by numbers, trays pairs (name, parts) by numbers, gaps terms by gaps; over the parts left over ahead and
@@ -260,8 +261,6 @@ class Machine:
 
     def __init__(self, signs, code, term):
         self._signs = signs
-        self._code = code
-        self._term = term
         self._engine = engine_of(signs, code, term)
 
     def step(self, *, units=1):
@@ -296,7 +295,8 @@ class Machine:
 
     def twin(self):
         """Another machine that stands alike."""
-        other = Machine(self._signs, self._code, self._term)
+        # To look at the code once more would take long where it is: a least one stands for it.
+        other = Machine(self._signs, LEAST_CODE, "X")
         other._engine = self._engine.twin()
         return other
 

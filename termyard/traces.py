@@ -59,15 +59,22 @@ class Trace:
         """The list of all steps, laid."""
         return list(self._rows)
 
+    def by(self, rows):
+        """The trace from the same term by other rows, which are known to be laid steps."""
+        # To look at them once more could take long.
+        other = Trace(self._turns, self._first)
+        other._rows = tuple(rows)
+        return other
+
     def joined(self, other):
         """The trace that goes on by the other one."""
         if not isinstance(other, Trace) or self._turns != other.turns() or self.last() != other.first():
             raise NoTrace("that is no trace of equal turns from where this one ends")
-        return Trace(self._turns, self._first, self._rows + tuple(other.rows()))
+        return self.by(self._rows + tuple(other.rows()))
 
     def cut(self):
         """The trace without ways round."""
-        return Trace(self._turns, self._first, without_rounds(self._first, self._rows))
+        return self.by(without_rounds(self._first, self._rows))
 
     def __len__(self):
         return len(self._rows)
