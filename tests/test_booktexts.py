@@ -89,7 +89,8 @@ class ReadTest(unittest.TestCase):
                     "sign g other 1 1", "sign g plain 10 1", "sign g plain 1 10", "sign g plain -1 1", "sign g plain x 1", "sign g plain 1 ", "sign g  plain 1 1",
                     "sign g Plain 1 1", "like", "like l", "like l x", "like l x =", "like l = x", "like l x = x x", "like l x == x", "like l x=x", "like l x x = x",
                     "like L x = x", "like l x() = x", "like l f(x = x", "like l f( x) = x", "like l X(x) = x", "like l  x = x", "like l x =  x", "like l xX = x",
-                    "like l f(x,) = x", "like a.l x = x", "over", "shelf", "drop a", "like l x = x ", "unlike a l"):
+                    "like l f(x,) = x", "like a.l x = x", "over", "shelf", "drop a", "like l x = x ", "unlike a l",
+                    "like l x = x()", "like l x = xX", "like l x = f(x", "alike l x = x", "unlike l x = x", "like"):
             with self.subTest(row):
                 self.assertEqual(refusal(read_shelf, A_BOOK + row + "\n"), no_text(3))
                 self.assertEqual(refusal(read_shelf, A_BOOK + row + "\nbook"), no_text(3))

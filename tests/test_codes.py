@@ -104,6 +104,7 @@ class FormTest(unittest.TestCase):
         self.yes(("try", (1,)), TELL)
         self.yes(("try", tuple(range(1, 41))), *[TELL for _ in range(40)])
         self.no(("try", tuple(range(1, 42))), *[TELL for _ in range(41)])
+        self.no(("try", (1, 2)), ("try", ()), TELL)
         for places in ((), (2, 1), (1, 1, 2), (0, 1, 2), (1, 2, 3), (True, 2), [1, 2], (-1, 1, 2), ("1", 2), 1, None, (1, None)):
             self.no(("try", places), TELL, TELL)
         self.no(("try", (1, 6000)), TELL, TELL)
@@ -187,6 +188,34 @@ class WaysTest(unittest.TestCase):
         self.yes(*either, ("rest", 1, "X"), TELL)
         self.no(*either, ("skip", 1), TELL)
         self.no(*either, ("one", 1, 2), TELL)
+
+    def test_each_box_and_tray_is_by_itself(self):
+        ends = [0, 1, 2, 50, 97, 98, 99]
+        for box in ends[1:]:
+            for tray in range(100):
+                for kind, name, word in (("row", "r", "first"), ("heap", "h", "one")):
+                    self.yes((kind, 0, name, tray), (word, tray, box), ("is", box, A), TELL)
+                    self.no((kind, 0, name, tray), ("over", tray), ("is", box, A), TELL)
+        for tray in range(100):
+            for other in ends:
+                rows = (("row", 0, "r", tray), ("heap", 0, "h", other))
+                wanted = tray != other
+                self.assertIs(is_code(SIGNS, (*rows, ("skip", tray), ("one", other, 1), TELL)), wanted)
+                self.assertIs(is_code(SIGNS, (*rows, ("one", tray, 1), TELL)), not wanted)
+                self.assertIs(is_code(SIGNS, (*rows[:1], ("empty", other), TELL)), not wanted)
+                self.assertIs(is_code(SIGNS, (*rows[1:], ("rest", tray, "X"), TELL)), not wanted)
+            self.yes(("row", 0, "r", tray), ("fill", 0, "X"), ("skip", tray), ("fill", 0, "Y"), ("over", tray), ("same", 0, "X"), TELL)
+            for other in ends:
+                for kind, name, word in (("row", "r", "first"), ("heap", "h", "one")):
+                    self.yes((kind, 0, name, tray), (kind, 0, name, other), (word, tray, 1), (word, other, 2), TELL)
+
+    def test_many_gaps_are_each_by_itself(self):
+        names = [first + second for first in "ABCXYZ" for second in "abcdefghijklmnopqrstuvwxyz"]
+        rows = tuple(("fill", 0, gap) for gap in names)
+        self.yes(*rows, *[("same", 0, gap) for gap in names], TELL)
+        for gap in names[::13]:
+            self.no(*rows, ("fill", 0, gap), TELL)
+            self.no(*[row for row in rows if row[2] != gap], ("same", 0, gap), TELL)
 
     def test_gaps_are_set_or_not(self):
         self.no(("same", 0, "X"), TELL)

@@ -137,7 +137,8 @@ class AnswerTest(unittest.TestCase):
                     "end  num z", "ask", "ask num", "ask num z", "ask num z =", "ask num z z", "ask num z = z z", "ask num z == z", "ask num z=z", "ask num  z = z", "ask num z =  z",
                     "ask N z = z", "ask num z = s(,)", "ask num z = z ", "like", "like num", "like num l", "like num l z", "like num l z =", "like num l z = z z", "like num L z = z",
                     "like N l z = z", "like num l z == z", "like num l = z", "like num l  z = z", "like num l z = (z)", "unlike", "unlike num", "unlike num az as", "unlike num A",
-                    "unlike  num az", "drop", "drop num dec", "drop N", "drop num ", "book x", "sign x plain 0 1", "uses num", "ask z = z", "begin"):
+                    "unlike  num az", "drop", "drop num dec", "drop N", "drop num ", "book x", "sign x plain 0 1", "uses num", "ask z = z", "begin",
+                    "alike num l z = z", "unlike num l z = z", "drop num l z = z", "book num l z = z", "like num l z = z()", "ask num z = zZ", "ends num z", "rule num"):
             with self.subTest(row):
                 self.assertEqual(desk.say(row), "what")
         self.assertEqual(desk.say("made"), "num dec")

@@ -231,6 +231,7 @@ class CountTest(Going):
         self.assertTrue(self.gone(("plan", "four"), chain(11, "X"), plans)[0])
         self.assertEqual(self.refused(("plan", "five"), chain(11, "X"), plans), TOO_LONG)
         self.assertTrue(self.gone(("plan", "five"), chain(10, "X"), plans)[0])
+        self.assertEqual(self.refused(then(("plan", "one"), ("plan", "five")), chain(11, "X"), plans, most=2000), TOO_LONG)
         # Those that stand beside one another aren't within one another.
         self.assertTrue(self.gone(then(("plan", "four"), ("plan", "four")), chain(11, "X"), plans)[0])
 

@@ -32,14 +32,14 @@ def within(times, inner=STAY):
     return nested(times - 1, lambda one: ("not", inner if one == "X" else one)) if times > 1 else inner
 
 
-def broad(count):
+def broad(count, leaf=STAY):
     """A plan of so many in all, few within one another."""
     if count == 1:
-        return STAY
+        return leaf
     if count == 2:
-        return ("not", STAY)
+        return ("not", leaf)
     half = (count - 1) // 2
-    return ("then", broad(half), broad(count - 1 - half))
+    return ("then", broad(half, leaf), broad(count - 1 - half, leaf))
 
 
 def count_of(plan):
@@ -77,6 +77,12 @@ class PlansTest(unittest.TestCase):
         self.assertEqual((count_of(broad(60)), count_of(broad(61))), (60, 61))
         self.assertIsNone(refusal(Plans, TURNS, {"a": broad(60)}))
         self.assertEqual(refusal(Plans, TURNS, {"a": broad(61)}), NO_PLAN)
+
+    def test_60_in_all_with_titles_and_names(self):
+        for leaf in (("turn", "ab"), ("plan", "a"), ("any",)):
+            self.assertEqual(count_of(broad(60, leaf)), 60)
+            self.assertIsNone(refusal(Plans, TURNS, {"a": broad(60, leaf)}))
+            self.assertEqual(refusal(Plans, TURNS, {"a": broad(61, leaf)}), NO_PLAN)
 
     def test_what_is_no_plan(self):
         for thing in NONE + things():

@@ -127,7 +127,7 @@ class DeedTest(unittest.TestCase):
         self.assertEqual((shelf.books(), shelf.own_likes("dec")), (["num", "dec"], []))
 
     def test_what_is_built_otherwise(self):
-        for thing in things():
+        for thing in things() + [(), ((),), ("book",), ("like",), ("unlike",), ("drop",)]:
             self.no_deed(thing)
         good = [NUM, AZ, ("unlike", "num", "az"), ("drop", "num"), ("book", "new", (sign("n"),), (("num", True), ("dec", False)))]
         for deed in good:
